@@ -1,0 +1,1 @@
+"""Deedmeanings: flows of control over deeds that may mean anything."""

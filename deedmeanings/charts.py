@@ -1,0 +1,257 @@
+"""Charts: machines that go on to at most one place by each symbol, and what can be told by them.
+
+nexts[place][symbol] is the place to which a chart goes on, -1 if there is none. The charts that flows keep
+are trimmed: each of their moves and ends is made use of by some row of the book. The book is passed as
+its steps: the masks of the truths that may come behind each symbol.
+
+No function here changes what it is passed.
+"""
+
+from deedmeanings.machines import Machine, come_masks
+from deedmeanings.names import members
+
+
+class Chart:
+    """Places, the truths at which rows may end there, and where each symbol leads."""
+
+    def __init__(self, width, finals, nexts):
+        self.width = width
+        self.finals = tuple(finals)
+        self.nexts = tuple([tuple(row) for row in nexts])
+
+
+def decided(machine):
+    """The chart whose places are the sets of places to which a machine may come by the same symbols."""
+    numbers = {0: -1, 1: 0}
+    queue = [1]
+    finals = []
+    nexts = []
+    while len(nexts) < len(queue):
+        ends = 0
+        row = [0] * len(machine.moves[0])
+        for place in members(queue[len(nexts)]):
+            ends = ends | machine.finals[place]
+            row = [mine | yours for mine, yours in zip(row, machine.moves[place])]
+        for mask in row:
+            if mask not in numbers:
+                numbers[mask] = len(queue)
+                queue.append(mask)
+        finals.append(ends)
+        nexts.append([numbers[mask] for mask in row])
+    return Chart(machine.width, finals, nexts)
+
+
+def shortened(chart):
+    """The chart with places of which the same can be read made one."""
+    blocks = numbered([(mask,) for mask in chart.finals])
+    before = 0
+    while before < len(blocks[1]):
+        before = len(blocks[1])
+        # What stands behind the last place is found at -1, which tells of no place.
+        told = blocks[0] + [-1]
+        blocks = numbered([(told[place],) + tuple([told[target] for target in row])
+                           for place, row in enumerate(chart.nexts)])
+    told = blocks[0] + [-1]
+    nexts = [[told[target] for target in chart.nexts[place]] for place in blocks[1]]
+    return Chart(chart.width, [chart.finals[place] for place in blocks[1]], nexts)
+
+
+def numbered(keys):
+    """A pair: for each key its number, equal ones having the same; for each number the first place of its key."""
+    numbers = {}
+    firsts = []
+    found = []
+    for place, key in enumerate(keys):
+        if key not in numbers:
+            numbers[key] = len(firsts)
+            firsts.append(place)
+        found.append(numbers[key])
+    return found, firsts
+
+
+def chart_of(machine, steps):
+    """The trimmed chart, with few places, of a trimmed machine."""
+    return shortened(reached_part(decided(machine), steps))
+
+
+def reached_part(chart, steps):
+    """The chart with just the places, moves and ends that some beginning of a row of a book comes to.
+
+    If the chart was made of a trimmed machine, some row goes on with each of them to its end.
+    """
+    edges = [[(symbol, 1 << (symbol // chart.width), steps[symbol], (target,))
+              for symbol, target in enumerate(row) if target >= 0] for row in chart.nexts]
+    come = come_masks((1 << (len(steps) // chart.width)) - 1, edges)
+    kept = [place for place, mask in enumerate(come) if mask]
+    numbers = {place: number for number, place in enumerate(kept)}
+    nexts = []
+    for place in kept:
+        row = [-1 for _ in steps]
+        for symbol, bit, _, targets in edges[place]:
+            if bit & come[place]:
+                row[symbol] = numbers[targets[0]]
+        nexts.append(row)
+    return Chart(chart.width, [chart.finals[place] & come[place] for place in kept], nexts)
+
+
+def machine_of(chart):
+    """The machine that goes on as a chart does."""
+    bits = [1 << place for place in range(len(chart.finals))] + [0]
+    return Machine(chart.width, chart.finals, [[bits[target] for target in row] for row in chart.nexts])
+
+
+def opposite(chart):
+    """The machine of all rows that are none of a chart."""
+    size = len(chart.finals)
+    everything = (1 << (len(chart.nexts[0]) // chart.width)) - 1
+    # What the chart does not go on with leads to a last place at which all is taken.
+    bits = [1 << place for place in range(size + 1)]
+    moves = [[bits[target] for target in row] for row in chart.nexts] + [[bits[size]] * len(chart.nexts[0])]
+    return Machine(chart.width, [everything ^ mask for mask in chart.finals] + [everything], moves)
+
+
+def is_within(one, other, steps):
+    """Whether each row of a trimmed chart is a row of another one."""
+    everything = (1 << (len(steps) // one.width)) - 1
+    come = {(0, 0): everything}
+    queue = [(0, 0, everything)]
+    at = 0
+    while at < len(queue):
+        mine, yours, truths = queue[at]
+        at += 1
+        if one.finals[mine] & truths & ~other.finals[yours]:
+            return False
+        for symbol, target in enumerate(one.nexts[mine]):
+            if target < 0 or not truths >> (symbol // one.width) & 1:
+                continue
+            pair = (target, other.nexts[yours][symbol])
+            # As one is trimmed, some row goes on here.
+            if pair[1] < 0:
+                return False
+            fresh = steps[symbol] & ~come.get(pair, 0)
+            if fresh:
+                come[pair] = come.get(pair, 0) | fresh
+                queue.append((target, pair[1], fresh))
+    return True
+
+
+def has_rows(chart):
+    """Whether a trimmed chart has rows."""
+    return chart.finals[0] != 0 or any([target >= 0 for target in chart.nexts[0]])
+
+
+def has_row(chart, numbers):
+    """Whether a row of the book, told by numbers, is a row of a chart."""
+    place = 0
+    for at in range(0, len(numbers) - 1, 2):
+        place = chart.nexts[place][numbers[at] * chart.width + numbers[at + 1]]
+        if place < 0:
+            return False
+    return chart.finals[place] >> numbers[-1] & 1 == 1
+
+
+def one_more(chart, steps, masks):
+    """For each place the mask of the truths from which one deed leads to a place with truths of its mask."""
+    found = []
+    for row in chart.nexts:
+        mask = 0
+        for symbol, target in enumerate(row):
+            if target >= 0 and masks[target] & steps[symbol]:
+                mask = mask | 1 << (symbol // chart.width)
+        found.append(mask)
+    return found
+
+
+def goes_on_for_ever(chart, steps):
+    """Whether rows of a trimmed chart can go on for ever: then they have infinitely many lengths."""
+    masks = [(1 << (len(steps) // chart.width)) - 1 for _ in chart.finals]
+    fewer = one_more(chart, steps, masks)
+    while fewer != masks:
+        masks = fewer
+        fewer = one_more(chart, steps, masks)
+    return masks[0] != 0
+
+
+def leaves_no_choice(chart):
+    """Whether a trimmed chart leaves nowhere a choice between an end and deeds."""
+    width = chart.width
+    for row, mask in zip(chart.nexts, chart.finals):
+        for truths in range(len(row) // width):
+            ways = [deed for deed in range(width) if row[truths * width + deed] >= 0]
+            if len(ways) + (mask >> truths & 1) > 1:
+                return False
+    return True
+
+
+def count_rows(chart, steps, length):
+    """The number of rows of a length."""
+    truths = len(steps) // chart.width
+    ways = [[mask >> last & 1 for last in range(truths)] for mask in chart.finals]
+    for _ in range(length):
+        ways = ways_behind(chart, steps, ways)
+    return sum(ways[0])
+
+
+def ways_behind(chart, steps, ways):
+    """For each place and truths the number of rows that go on with one deed more than ways tells of."""
+    sums = {}
+    for row in chart.nexts:
+        for symbol, target in enumerate(row):
+            if target >= 0 and (target, steps[symbol]) not in sums:
+                sums[(target, steps[symbol])] = sum([ways[target][last] for last in members(steps[symbol])])
+    found = []
+    for row in chart.nexts:
+        told = [sums[(target, steps[symbol])] if target >= 0 else 0 for symbol, target in enumerate(row)]
+        found.append([sum(told[at:at + chart.width]) for at in range(0, len(told), chart.width)])
+    return found
+
+
+def layers_of(chart, steps, length):
+    """For each number of deeds up to a length, and each place, the truths from which so many lead to an end."""
+    layers = [list(chart.finals)]
+    for _ in range(length):
+        layers.append(one_more(chart, steps, layers[-1]))
+    return layers
+
+
+def shortest(chart, steps):
+    """The length of the shortest rows of a trimmed chart, None if it has no rows."""
+    if not has_rows(chart):
+        return None
+    length = 0
+    masks = list(chart.finals)
+    while not masks[0]:
+        masks = one_more(chart, steps, masks)
+        length += 1
+    return length
+
+
+def first_row(chart, steps, length):
+    """The first row of a length that a chart has, told by numbers."""
+    layers = layers_of(chart, steps, length)
+    place = 0
+    row = [members(layers[length][0])[0]]
+    for left in reversed(range(length)):
+        symbol = row[-1] * chart.width
+        while chart.nexts[place][symbol] < 0 or not steps[symbol] & layers[left][chart.nexts[place][symbol]]:
+            symbol += 1
+        place = chart.nexts[place][symbol]
+        row = row + [symbol % chart.width, members(steps[symbol] & layers[left][place])[0]]
+    return row
+
+
+def all_rows(chart, steps, length):
+    """The list of all rows of a length, in order, told by numbers."""
+    layers = layers_of(chart, steps, length)
+    begun = [((first,), 0) for first in members(layers[length][0])]
+    for left in reversed(range(length)):
+        longer = []
+        for row, place in begun:
+            for deed in range(chart.width):
+                symbol = row[-1] * chart.width + deed
+                target = chart.nexts[place][symbol]
+                if target >= 0:
+                    longer.extend([(row + (deed, last), target)
+                                   for last in members(steps[symbol] & layers[left][target])])
+        begun = longer
+    return [row for row, _ in begun]
