@@ -59,38 +59,34 @@ class Book:
         """The mask of the truths at which a say holds."""
         return mask_where(self._truths, say)
 
+    def needed_rank(self, thing):
+        """The number of truths; raises BadTruths for any object that is no list of unlike tests."""
+        rank = self.rank(thing)
+        if rank is None:
+            raise BadTruths(thing)
+        return rank
+
+    def needed_number(self, thing):
+        """The number of a deed; raises NoDeed for any object that is no deed."""
+        number = self.number(thing)
+        if number is None:
+            raise NoDeed(thing)
+        return number
+
     def lets(self, ahead, deed, behind):
         """Whether a step is let."""
-        first = self.rank(ahead)
-        if first is None:
-            raise BadTruths(ahead)
-        number = self.number(deed)
-        if number is None:
-            raise NoDeed(deed)
-        last = self.rank(behind)
-        if last is None:
-            raise BadTruths(behind)
-        return self._steps[first * len(self._deeds) + number] >> last & 1 == 1
+        symbol = self.needed_rank(ahead) * len(self._deeds) + self.needed_number(deed)
+        return self._steps[symbol] >> self.needed_rank(behind) & 1 == 1
 
     def behind(self, ahead, deed):
         """The ascending list of the truths to which a step may lead."""
-        first = self.rank(ahead)
-        if first is None:
-            raise BadTruths(ahead)
-        number = self.number(deed)
-        if number is None:
-            raise NoDeed(deed)
-        return [self._truths[last] for last in members(self._steps[first * len(self._deeds) + number])]
+        symbol = self.needed_rank(ahead) * len(self._deeds) + self.needed_number(deed)
+        return [self._truths[last] for last in members(self._steps[symbol])]
 
     def ahead(self, deed, behind):
         """The ascending list of the truths from which a step may lead somewhere."""
-        number = self.number(deed)
-        if number is None:
-            raise NoDeed(deed)
-        last = self.rank(behind)
-        if last is None:
-            raise BadTruths(behind)
-        masks = self._steps[number::len(self._deeds)]
+        masks = self._steps[self.needed_number(deed)::len(self._deeds)]
+        last = self.needed_rank(behind)
         return [self._truths[first] for first, mask in enumerate(masks) if mask >> last & 1]
 
     def more(self, promises):

@@ -2,7 +2,7 @@
 
 from deedmeanings.charts import all_rows, chart_of, count_rows, first_row, goes_on_for_ever, has_row, has_rows
 from deedmeanings.charts import is_within, leaves_no_choice, machine_of, opposite, shortest
-from deedmeanings.errors import BadCount, NoDeed, NoTest, UnlikeBooks
+from deedmeanings.errors import BadCount, NoTest, UnlikeBooks
 from deedmeanings.machines import backwards, beginnings, checked, done, joined, repeated, shared, trimmed
 from deedmeanings.machines import unbounded, united
 from deedmeanings.names import is_integer
@@ -27,10 +27,7 @@ class Flow:
     @staticmethod
     def deed(book, deed):
         """The flow of the steps of a deed that are let."""
-        number = book.number(deed)
-        if number is None:
-            raise NoDeed(deed)
-        return Flow(book, done(len(book.deeds()), len(book.truths()), number))
+        return Flow(book, done(len(book.deeds()), len(book.truths()), book.needed_number(deed)))
 
     @staticmethod
     def check(book, say):
@@ -74,9 +71,7 @@ class Flow:
     def put(self, deed, part):
         """The flow of the rows in which rows of a part stand in the place of the steps with a deed."""
         check_books(self, part)
-        number = self.book.number(deed)
-        if number is None:
-            raise NoDeed(deed)
+        number = self.book.needed_number(deed)
         return Flow(self.book, put_in(self._machine, number, part._machine, self.book.steps()))
 
     def first(self):
@@ -96,14 +91,12 @@ class Flow:
 
     def count(self, n):
         """The number of rows of a length."""
-        if not is_integer(n) or n < 0:
-            raise BadCount(n)
+        check_count(n)
         return count_rows(self._chart, self.book.steps(), n)
 
     def rows(self, n):
         """The ascending list of the rows of a length."""
-        if not is_integer(n) or n < 0:
-            raise BadCount(n)
+        check_count(n)
         return [row_told(self.book, row) for row in all_rows(self._chart, self.book.steps(), n)]
 
     def is_sure(self):
@@ -180,6 +173,12 @@ def check_say(book, say):
     for name in say.tests():
         if name not in book.tests():
             raise NoTest(name)
+
+
+def check_count(thing):
+    """Raises BadCount for any object that is no integer from 0 on."""
+    if not is_integer(thing) or thing < 0:
+        raise BadCount(thing)
 
 
 def either(say, p, q):
