@@ -1,7 +1,7 @@
 """Books: tests, deeds, and the steps that their promises let."""
 
 from deedmeanings.errors import BadDeeds, BadPromise, BadTests, BadTruths, NoDeed, UnlikeBooks
-from deedmeanings.names import are_names, ascending, is_list, mask_of, members, subsets
+from deedmeanings.names import are_names, ascending, is_list, mask_of, members, numbers_of, subsets
 from deedmeanings.says import Say
 
 MOST_TESTS = 4
@@ -24,6 +24,8 @@ class Book:
         self._tests = ascending(tests)
         self._deeds = ascending(deeds)
         self._truths = tuple(subsets(self._tests))
+        self._ranks = numbers_of(self._truths)
+        self._numbers = numbers_of(self._deeds)
         check_promises(self._tests, self._deeds, promises)
         self._steps = steps_by(self._deeds, self._truths, promises)
 
@@ -47,13 +49,13 @@ class Book:
         """The number of truths, None for any object that is no list of unlike tests."""
         if not are_names(thing) or not all([name in self._tests for name in thing]):
             return None
-        return self._truths.index(ascending(thing))
+        return self._ranks[ascending(thing)]
 
     def number(self, thing):
         """The number of a deed, None for any object that is no deed."""
-        if not isinstance(thing, str) or thing not in self._deeds:
+        if not isinstance(thing, str):
             return None
-        return self._deeds.index(thing)
+        return self._numbers.get(thing)
 
     def mask(self, say):
         """The mask of the truths at which a say holds."""
@@ -99,7 +101,7 @@ class Book:
         if not is_promise(self._tests, self._deeds, promise):
             raise BadPromise(0)
         before, deed, behind = promise
-        masks = self._steps[self._deeds.index(deed)::len(self._deeds)]
+        masks = self._steps[self._numbers[deed]::len(self._deeds)]
         wrong = self.mask(~behind)
         return not any([masks[first] & wrong for first in members(self.mask(before))])
 
@@ -179,18 +181,20 @@ def mask_where(truths, say):
 
 def say_where(tests, truths, mask):
     """The say of tests that is true at just the truths of a mask."""
-    indexes = [mask_of([tests.index(name) for name in truths[rank]]) for rank in members(mask)]
+    indexes = [mask_of([place for place, name in enumerate(tests) if name in truths[rank]])
+               for rank in members(mask)]
     return Say(tests, mask_of(indexes))
 
 
 def steps_by(deeds, truths, promises):
     """The tuple of the masks of the truths that promises let come behind each symbol."""
     width = len(deeds)
+    numbers = numbers_of(deeds)
     steps = [(1 << len(truths)) - 1 for _ in range(width * len(truths))]
     for before, deed, behind in promises:
         kept = mask_where(truths, behind)
         for first in members(mask_where(truths, before)):
-            symbol = first * width + deeds.index(deed)
+            symbol = first * width + numbers[deed]
             steps[symbol] = steps[symbol] & kept
     return tuple(steps)
 

@@ -86,11 +86,11 @@ def reached_part(chart, steps):
     numbers = {place: number for number, place in enumerate(kept)}
     nexts = []
     for place in kept:
-        row = [-1 for _ in steps]
+        kept_row = [-1 for _ in steps]
         for symbol, bit, _, targets in edges[place]:
             if bit & come[place]:
-                row[symbol] = numbers[targets[0]]
-        nexts.append(row)
+                kept_row[symbol] = numbers[targets[0]]
+        nexts.append(kept_row)
     return Chart(chart.width, [chart.finals[place] & come[place] for place in kept], nexts)
 
 

@@ -49,6 +49,11 @@ def subsets(names):
     return [()] + [names[:1] + some for some in rest] + rest[1:]
 
 
+def numbers_of(things):
+    """The dict from each of some unlike things to its place among them."""
+    return {thing: place for place, thing in enumerate(things)}
+
+
 def members(mask):
     """The ascending list of the numbers in a mask."""
     found = []

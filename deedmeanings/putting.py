@@ -7,7 +7,7 @@ same symbols than if what may come behind the replaced step was kept.
 """
 
 from deedmeanings.machines import Machine, gated
-from deedmeanings.names import mask_of, members
+from deedmeanings.names import mask_of, members, numbers_of
 
 
 class Putting:
@@ -19,6 +19,7 @@ class Putting:
         self.part = part
         self.behind_symbols = steps
         self.heads = heads_of(machine, number)
+        self.head_numbers = numbers_of(self.heads)
         self.reached = [reached_idly(machine, part, steps, symbol)
                         for symbol in range(number, len(steps), machine.width)]
 
@@ -26,7 +27,7 @@ class Putting:
         """The number of the first place inside that has to end with truths and go on at a head."""
         count = len(self.reached)
         size = len(self.part.finals)
-        return len(self.machine.finals) + (self.heads.index(head) * count + last) * size
+        return len(self.machine.finals) + (self.head_numbers[head] * count + last) * size
 
 
 def put_in(machine, number, part, steps):

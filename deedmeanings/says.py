@@ -66,10 +66,11 @@ class Say:
             raise BadName(name)
         if truth is not True and truth is not False:
             raise BadTruth(truth)
-        if name not in self._names:
-            return self
-        place = self._names.index(name)
-        return Say(self._names, settled(len(self._names), self._table, place, truth))
+        table = self._table
+        for place, other in enumerate(self._names):
+            if other == name:
+                table = settled(len(self._names), table, place, truth)
+        return Say(self._names, table)
 
     def some(self, name):
         """The say that is true where it is with a test holding or without it."""
@@ -152,7 +153,8 @@ def table_over(names, table, wanted):
     """The table that tells the same over other names; those left out make no difference."""
     if names == wanted:
         return table
-    places = [(names.index(name), place) for place, name in enumerate(wanted) if name in names]
+    numbers = {name: place for place, name in enumerate(names)}
+    places = [(numbers[name], place) for place, name in enumerate(wanted) if name in numbers]
     told = 0
     for index in range(1 << len(wanted)):
         narrow = mask_of([mine for mine, place in places if index >> place & 1])

@@ -63,19 +63,30 @@ def bound_in(node):
     return found
 
 
+def is_fresh(value):
+    """Whether an expression creates a list or dict."""
+    if isinstance(value, ast.Call) and isinstance(value.func, ast.Name):
+        return value.func.id in ("list", "dict", "sorted")
+    return isinstance(value, (ast.List, ast.Dict, ast.ListComp))
+
+
 def made_here(function):
-    """The local names that a function assigns nothing but lists and dicts that it creates itself."""
-    own, other = set(), set()
-    for node in ast.walk(function):
-        if isinstance(node, ast.Assign):
-            value = node.value
-            fresh = isinstance(value, (ast.List, ast.Dict, ast.ListComp)) or (
-                isinstance(value, ast.Call) and isinstance(value.func, ast.Name)
-                and value.func.id in ("list", "dict", "sorted"))
-            for target in node.targets:
-                if isinstance(target, ast.Name):
-                    (own if fresh else other).add(target.id)
-    return own - other
+    """The local names that stand, in a function, for nothing but lists and dicts that it creates itself.
+
+    A name that a loop, a comprehension, a parameter or anything else binds, too, is none of them.
+    """
+    own = [target for node in ast.walk(function) if isinstance(node, ast.Assign) and is_fresh(node.value)
+           for target in node.targets if isinstance(target, ast.Name)]
+    other = {node.id for node in ast.walk(function) if isinstance(node, ast.Name)
+             and not isinstance(node.ctx, ast.Load) and not any(node is one for one in own)}
+    other |= {node.arg for node in ast.walk(function) if isinstance(node, ast.arg)}
+    return {one.id for one in own} - other
+
+
+def stored_attributes(every):
+    """All names that some class stores as attributes."""
+    return {node.attr for tree in every for node in ast.walk(tree)
+            if isinstance(node, ast.Attribute) and isinstance(node.ctx, ast.Store)}
 
 
 class Text(unittest.TestCase):
@@ -250,6 +261,25 @@ class Statements(unittest.TestCase):
                         self.assertIsInstance(node.op, ast.Add, where)
                         self.assertIsInstance(node.target, ast.Name, where)
                         self.assertIsInstance(node.value, ast.Constant, where)
+
+    def test_no_call_has_the_name_of_an_attribute(self):
+        # So it is seen of each call in what an operator runs that it calls no object that something holds.
+        stored = stored_attributes(tree for _, tree in trees())
+        self.assertTrue({"index", "name", "row", "thing", "promise"} <= stored)
+        for name, tree in trees():
+            for node in ast.walk(tree):
+                if isinstance(node, ast.Call) and isinstance(node.func, ast.Attribute):
+                    self.assertNotIn(node.func.attr, stored, (name, node.lineno))
+
+    def test_the_look_at_what_is_modified(self):
+        def own(text):
+            return made_here(ast.parse(text).body[0])
+        self.assertEqual(own("def f(xs):\n    row = [1]\n    row.append(2)"), {"row"})
+        self.assertEqual(own("def f(xs):\n    row = [1]\n    xs = [row for row in xs]"), set())
+        self.assertEqual(own("def f(xs):\n    row = [1]\n    for row, _ in xs:\n        row.append(2)"), set())
+        self.assertEqual(own("def f(xs):\n    row, a = [1], 2\n    b = [2]"), {"b"})
+        self.assertEqual(own("def f(row):\n    row = list(row)"), set())
+        self.assertEqual(own("def f(xs):\n    row = [1]\n    row = xs"), set())
 
     def test_loops_do_not_modify_what_they_iterate_over(self):
         for name, tree in trees():
