@@ -61,6 +61,10 @@ class Book:
         """The mask of the truths at which a say holds."""
         return mask_where(self._truths, say)
 
+    def where(self, mask):
+        """The say of tests of the book that is true at just the truths of a mask."""
+        return say_where(self._tests, self._truths, mask)
+
     def needed_rank(self, thing):
         """The number of truths; raises BadTruths for any object that is no list of unlike tests."""
         rank = self.rank(thing)
@@ -98,12 +102,16 @@ class Book:
 
     def follows(self, promise):
         """Whether each step that is let keeps a promise."""
-        if not is_promise(self._tests, self._deeds, promise):
+        if not self.has_promise(promise):
             raise BadPromise(0)
         before, deed, behind = promise
         masks = self._steps[self._numbers[deed]::len(self._deeds)]
         wrong = self.mask(~behind)
         return not any([masks[first] & wrong for first in members(self.mask(before))])
+
+    def has_promise(self, thing):
+        """Whether any object is a promise of tests and deeds of the book, be it kept or not."""
+        return is_promise(self._tests, self._deeds, thing)
 
     def promises(self):
         """The list of the promises by which the book tells itself."""

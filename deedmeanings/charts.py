@@ -7,7 +7,7 @@ its steps: the masks of the truths that may come behind each symbol.
 No function here changes what it is passed.
 """
 
-from deedmeanings.machines import Machine, come_masks
+from deedmeanings.machines import Machine, come_masks, live_masks
 from deedmeanings.names import members
 
 
@@ -74,13 +74,31 @@ def chart_of(machine, steps):
     return shortened(reached_part(decided(machine), steps))
 
 
+def chart_edges(chart, steps):
+    """For each place the list of its moves: symbol, the bit of its truths, what may come behind, the place."""
+    return [[(symbol, 1 << (symbol // chart.width), steps[symbol], (target,))
+             for symbol, target in enumerate(row) if target >= 0] for row in chart.nexts]
+
+
+def first_truths(chart, steps, mask):
+    """The mask of the truths with which rows of a chart begin that end with truths of a mask."""
+    return live_masks([ends & mask for ends in chart.finals], chart_edges(chart, steps))[0]
+
+
+def last_truths(chart, steps, mask):
+    """The mask of the truths with which rows of a chart end that begin with truths of a mask."""
+    found = 0
+    for come, ends in zip(come_masks(mask, chart_edges(chart, steps)), chart.finals):
+        found = found | come & ends
+    return found
+
+
 def reached_part(chart, steps):
     """The chart with just the places, moves and ends that some beginning of a row of a book comes to.
 
     If the chart was made of a trimmed machine, some row goes on with each of them to its end.
     """
-    edges = [[(symbol, 1 << (symbol // chart.width), steps[symbol], (target,))
-              for symbol, target in enumerate(row) if target >= 0] for row in chart.nexts]
+    edges = chart_edges(chart, steps)
     come = come_masks((1 << (len(steps) // chart.width)) - 1, edges)
     kept = [place for place, mask in enumerate(come) if mask]
     numbers = {place: number for number, place in enumerate(kept)}

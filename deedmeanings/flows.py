@@ -24,6 +24,14 @@ class Flow:
         fewest = len(self._chart.finals) <= len(few.finals)
         self._machine = machine_of(self._chart) if fewest else few
 
+    def chart(self):
+        """The chart of the rows, which is trimmed."""
+        return self._chart
+
+    def machine(self):
+        """The machine of the rows, which is trimmed."""
+        return self._machine
+
     @staticmethod
     def deed(book, deed):
         """The flow of the steps of a deed that are let."""

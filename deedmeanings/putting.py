@@ -14,7 +14,7 @@ class Putting:
     """What is asked again and again while the machine is made."""
 
     def __init__(self, machine, number, part, steps):
-        self.machine = machine
+        self.outer = machine
         self.replaced = number
         self.part = part
         self.behind_symbols = steps
@@ -27,7 +27,7 @@ class Putting:
         """The number of the first place inside that has to end with truths and go on at a head."""
         count = len(self.reached)
         size = len(self.part.finals)
-        return len(self.machine.finals) + (self.head_numbers[head] * count + last) * size
+        return len(self.outer.finals) + (self.head_numbers[head] * count + last) * size
 
 
 def put_in(machine, number, part, steps):
@@ -81,7 +81,7 @@ def reached_idly(machine, part, steps, symbol):
 
 def entering_row(putting, head):
     """The moves by which a row of the part begins, in the place of a step by which a head is come to."""
-    width = putting.machine.width
+    width = putting.outer.width
     row = []
     for symbol, targets in enumerate(putting.part.moves[0]):
         step = symbol - symbol % width + putting.replaced
@@ -95,12 +95,12 @@ def entering_row(putting, head):
 def outside_ends(putting, place):
     """The mask of the truths at which a row may end at a place outside, if need be behind rows of length 0."""
     return mask_of([truths for truths, reached in enumerate(putting.reached)
-                    if any([putting.machine.finals[idle] >> truths & 1 for idle in members(reached[place])])])
+                    if any([putting.outer.finals[idle] >> truths & 1 for idle in members(reached[place])])])
 
 
 def outside_row(putting, entries, place):
     """The moves from a place outside: the other deeds, and the beginnings of rows of the part."""
-    machine = putting.machine
+    machine = putting.outer
     row = []
     for symbol in range(len(putting.behind_symbols)):
         truths, deed = divmod(symbol, machine.width)

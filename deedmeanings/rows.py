@@ -3,12 +3,18 @@
 from deedmeanings.names import is_list
 
 
-def row_by_numbers(book, thing):
-    """The list of the numbers of a row, None for any object that is no row of the book."""
+def numbers_by_turns(book, thing):
+    """The list of the numbers of truths and deeds by turns, None for any object that is no such tuple."""
     if not is_list(thing) or len(thing) % 2 == 0:
         return None
     numbers = [book.number(part) if at % 2 else book.rank(part) for at, part in enumerate(thing)]
-    if not all([number is not None for number in numbers]):
+    return numbers if all([number is not None for number in numbers]) else None
+
+
+def row_by_numbers(book, thing):
+    """The list of the numbers of a row, None for any object that is no row of the book."""
+    numbers = numbers_by_turns(book, thing)
+    if numbers is None:
         return None
     steps = book.steps()
     width = len(book.deeds())

@@ -10,7 +10,7 @@ import pathlib
 import unittest
 
 import deedmeanings
-from deedmeanings import books, flows, says
+from deedmeanings import books, comparing, flows, holding, meanings, readers, says
 
 FOLDER = pathlib.Path(deedmeanings.__file__).parent
 FILES = sorted(FOLDER.rglob("*.py"))
@@ -313,6 +313,8 @@ class Interface(unittest.TestCase):
         flows.Flow: ["deed", "check", "skip", "stop", "full", "often", "begun", "turned", "under", "put", "first",
                      "length", "is_endless", "count", "rows", "is_sure", "__rshift__", "__or__", "__and__",
                      "__sub__", "__invert__", "__pow__", "__contains__", "__bool__", "__le__", "__lt__", "__eq__"],
+        readers.Reader: ["step", "ends", "way", "reads", "flow", "__len__", "__eq__"],
+        meanings.Meaning: ["of_row", "truths", "states", "ways", "keeps", "ends", "leads", "__add__", "__eq__"],
     }
     PARAMETERS = {
         says.Say: {"test": ["name"], "yes": [], "no": [], "of_terms": ["terms"], "holds": ["true"],
@@ -321,6 +323,22 @@ class Interface(unittest.TestCase):
                      "more": ["promises"], "follows": ["promise"], "__init__": ["tests", "deeds", "promises"]},
         flows.Flow: {"deed": ["book", "deed"], "check": ["book", "say"], "skip": ["book"], "stop": ["book"],
                      "full": ["book"], "under": ["book"], "put": ["deed", "part"], "count": ["n"], "rows": ["n"]},
+        readers.Reader: {"step": ["place", "truths", "deed"], "ends": ["place"], "way": ["place"], "reads": ["row"],
+                         "flow": []},
+        meanings.Meaning: {"__init__": ["book", "size", "tests", "deeds"], "of_row": ["book", "row"],
+                           "truths": ["state"], "states": ["say"], "ways": ["deed"], "keeps": ["promise"],
+                           "ends": ["flow", "state"], "leads": ["flow"]},
+    }
+    FILES = {says.Say: says, books.Book: books, flows.Flow: flows, readers.Reader: readers,
+             meanings.Meaning: meanings}
+    FUNCTIONS = {
+        flows: {"either": ["say", "p", "q"], "whilst": ["say", "p"]},
+        readers: {"reader_of": ["flow"]},
+        comparing: {"unlike": ["p", "q"], "cover": ["p", "q"], "is_cover": ["p", "q", "thing"], "parting": ["p", "q"],
+                    "is_parting": ["p", "q", "thing"]},
+        holding: {"reached": ["say", "p"], "needed": ["p", "say"], "holds": ["before", "p", "behind"],
+                  "breaking": ["before", "p", "behind"], "strongest_kept": ["say", "p"], "weakest_kept": ["p", "say"],
+                  "when": ["p", "q"], "thereafter": ["p", "q"]},
     }
 
     def test_classes_and_methods(self):
@@ -332,12 +350,17 @@ class Interface(unittest.TestCase):
                 found = [one for one in inspect.signature(getattr(kind, name)).parameters if one != "self"]
                 self.assertEqual(found, parameters, name)
 
-    def test_where_they_are_defined(self):
-        for module, names in ((says, ["Say"]), (books, ["Book"]), (flows, ["Flow", "either", "whilst"])):
-            for name in names:
-                self.assertEqual(getattr(module, name).__module__, module.__name__)
-        self.assertEqual(list(inspect.signature(flows.either).parameters), ["say", "p", "q"])
-        self.assertEqual(list(inspect.signature(flows.whilst).parameters), ["say", "p"])
+    def test_functions(self):
+        for module, functions in self.FUNCTIONS.items():
+            for name, parameters in functions.items():
+                function = getattr(module, name)
+                self.assertEqual(function.__module__, module.__name__)
+                self.assertEqual(list(inspect.signature(function).parameters), parameters, name)
+
+    def test_where_classes_are_defined(self):
+        for kind, module in self.FILES.items():
+            self.assertEqual(kind.__module__, module.__name__)
+        self.assertEqual(set(self.FILES), set(self.LISTED))
 
 
 if __name__ == "__main__":

@@ -3,7 +3,10 @@
 import unittest
 
 from deedmeanings.books import Book
+from deedmeanings.comparing import cover, is_cover, is_parting, parting, unlike
 from deedmeanings.flows import Flow, either, whilst
+from deedmeanings.holding import holds, needed, reached, strongest_kept, thereafter, weakest_kept, when
+from deedmeanings.readers import reader_of
 from deedmeanings.says import Say
 
 from tests.plain import all_truths, book_of, chances, flow_of, free_book, random_book, random_tree, say_of
@@ -114,6 +117,46 @@ class Limits(unittest.TestCase):
         self.assertEqual(flow.count(60), 16 ** 61 * 5 ** 56)
         self.assertEqual(len(Flow.deed(book, "d").rows(1)), 256)
         self.assertEqual(len((Flow.deed(book, "d") | Flow.deed(book, "h")).rows(1)), 512)
+
+    def test_readers_covers_and_partings(self):
+        for plain in largest_books():
+            chance = chances(55)
+            book = book_of(plain)
+            d, check = Flow.deed(book, "d"), some_check(chance, book)
+            far = d.often() >> check >> d ** 3
+            near = far | (Flow.deed(book, "e") >> check).often() >> d
+            reader = reader_of(far)
+            self.assertEqual(len(reader), len({reader.way(place) for place in range(len(reader))}))
+            self.assertEqual(reader.flow(), far)
+            told = cover(far, near)
+            self.assertIs(is_cover(far, near, told), True)
+            self.assertIs(is_cover(far, near, told[1:]), False)
+            self.assertIsNone(unlike(far, near))
+            self.assertEqual(cover(near, far) is None, bool(near - far))
+            thing = parting(near, far)
+            self.assertIs(thing is None or is_parting(near, far, thing), True)
+
+    def test_a_reader_with_many_places(self):
+        book = Book(TESTS, ["d"])
+        flow = Flow.full(book) >> Flow.check(book, Say.test("x")) >> Flow.deed(book, "d") ** 8
+        reader = reader_of(flow)
+        self.assertEqual(len(reader), 256)
+        self.assertEqual(reader.way(255), (("a", "b", "c", "x"), "d") * 8)
+        self.assertEqual(len(reader.ends(255)), 16)
+
+    def test_what_holds(self):
+        for plain in largest_books():
+            chance = chances(56)
+            book = book_of(plain)
+            p, q = (flow_of(random_tree(chance, plain, 5, (">>", "|"), ("often", "whilst")), plain, book)
+                    for _ in range(2))
+            say = say_of(TESTS, all_truths(TESTS)[::3])
+            self.assertIs(holds(say, p, reached(say, p)), True)
+            self.assertIs(holds(needed(p, say), p, say), True)
+            for kept in (strongest_kept(say, p), weakest_kept(p, say)):
+                self.assertIs(holds(kept, p, kept), True)
+            self.assertTrue(Flow.check(book, when(p, q)) >> p <= q)
+            self.assertTrue(p >> Flow.check(book, thereafter(p, q)) <= q)
 
 
 if __name__ == "__main__":
