@@ -119,37 +119,37 @@ def machine_of(chart):
 
 
 def opposite(chart):
-    """The machine of all rows that are none of a chart."""
+    """The chart of all rows that are none of a chart."""
     size = len(chart.finals)
     everything = (1 << (len(chart.nexts[0]) // chart.width)) - 1
     # What the chart does not go on with leads to a last place at which all is taken.
-    bits = [1 << place for place in range(size + 1)]
-    moves = [[bits[target] for target in row] for row in chart.nexts] + [[bits[size]] * len(chart.nexts[0])]
-    return Machine(chart.width, [everything ^ mask for mask in chart.finals] + [everything], moves)
+    nexts = [[target if target >= 0 else size for target in row] for row in chart.nexts]
+    finals = [everything ^ mask for mask in chart.finals] + [everything]
+    return Chart(chart.width, finals, nexts + [[size] * len(chart.nexts[0])])
 
 
 def is_within(one, other, steps):
-    """Whether each row of a trimmed chart is a row of another one."""
+    """Whether each row of a chart that is let by steps is a row of another one.
+
+    The steps may be those of a book that is stricter than that of the charts.
+    """
     everything = (1 << (len(steps) // one.width)) - 1
+    # What stands behind the last place is found at -1: nothing ends and nothing goes on there.
+    finals = list(other.finals) + [0]
+    nexts = list(other.nexts) + [[-1] * len(steps)]
     come = {(0, 0): everything}
     queue = [(0, 0, everything)]
     at = 0
     while at < len(queue):
         mine, yours, truths = queue[at]
         at += 1
-        if one.finals[mine] & truths & ~other.finals[yours]:
+        if one.finals[mine] & truths & ~finals[yours]:
             return False
         for symbol, target in enumerate(one.nexts[mine]):
-            if target < 0 or not truths >> (symbol // one.width) & 1:
-                continue
-            pair = (target, other.nexts[yours][symbol])
-            # As one is trimmed, some row goes on here.
-            if pair[1] < 0:
-                return False
-            fresh = steps[symbol] & ~come.get(pair, 0)
-            if fresh:
-                come[pair] = come.get(pair, 0) | fresh
-                queue.append((target, pair[1], fresh))
+            pair = (target, nexts[yours][symbol])
+            if target >= 0 and truths >> (symbol // one.width) & 1 and steps[symbol] & ~come.get(pair, 0):
+                queue.append(pair + (steps[symbol] & ~come.get(pair, 0),))
+                come[pair] = come.get(pair, 0) | steps[symbol]
     return True
 
 

@@ -133,10 +133,10 @@ class Flow:
         if not isinstance(other, Flow):
             return NotImplemented
         check_books(self, other)
-        return Flow(self.book, shared(self._machine, opposite(other._chart)))
+        return Flow(self.book, shared(self._machine, machine_of(opposite(other._chart))))
 
     def __invert__(self):
-        return Flow(self.book, opposite(self._chart))
+        return Flow(self.book, machine_of(opposite(self._chart)))
 
     def __pow__(self, other):
         if not is_integer(other):

@@ -41,12 +41,12 @@ def merged(one, two):
     return ascending(list(one) + [name for name in two if name not in one])
 
 
-def subsets(names):
-    """The ascending list of all tuples that are made of an ascending tuple of names by leaving some out."""
-    if not names:
+def subsets(things):
+    """The ascending list of all tuples that are made of an ascending tuple by leaving some things out."""
+    if not things:
         return [()]
-    rest = subsets(names[1:])
-    return [()] + [names[:1] + some for some in rest] + rest[1:]
+    rest = subsets(things[1:])
+    return [()] + [things[:1] + some for some in rest] + rest[1:]
 
 
 def numbers_of(things):

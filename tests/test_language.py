@@ -10,7 +10,8 @@ import pathlib
 import unittest
 
 import deedmeanings
-from deedmeanings import books, comparing, flows, holding, meanings, readers, says
+from deedmeanings import (books, comparing, flows, gaps, holding, ledgers, meanings, programs, promising, readers,
+                          says)
 
 FOLDER = pathlib.Path(deedmeanings.__file__).parent
 FILES = sorted(FOLDER.rglob("*.py"))
@@ -26,7 +27,9 @@ OPERATORS = set("""__lt__ __le__ __gt__ __ge__ __ne__ __add__ __sub__ __mul__ __
 DOUBLE = OPERATORS | {"__init__", "__eq__", "__repr__", "__str__", "__len__", "__call__"}
 BARRED_NODES = (ast.Global, ast.Nonlocal, ast.AsyncFunctionDef, ast.AsyncFor, ast.AsyncWith, ast.Await, ast.Div,
                 ast.GeneratorExp, ast.Set, ast.SetComp, ast.Yield, ast.YieldFrom, ast.Lambda, ast.NamedExpr,
-                ast.Delete, ast.Starred, ast.Try, ast.With, ast.Match)
+                ast.Delete, ast.Starred, ast.With, ast.Match)
+# The one class whose objects change, by its methods but not by its operators.
+CHANGING = "Ledger"
 MODIFYING = {"append", "extend", "insert", "pop", "remove", "clear", "reverse", "setdefault", "update", "sort",
              "add", "discard"}
 METHODS = set("""append clear copy count endswith extend find get index insert isalnum isalpha isdigit islower
@@ -212,6 +215,10 @@ class Statements(unittest.TestCase):
         for name, tree in trees():
             for node in ast.walk(tree):
                 self.assertNotIsInstance(node, BARRED_NODES, (name, getattr(node, "lineno", 0)))
+                if isinstance(node, ast.Try):
+                    self.assertFalse(node.handlers or node.orelse, (name, node.lineno))
+                    for line in node.finalbody:
+                        self.assertRegex(ast.unparse(line), r"^\(?self\._\w+(, self\._\w+)*\)? = \(?\w+(, \w+)*\)?$")
                 if isinstance(node, ast.BinOp) and isinstance(node.op, ast.Pow):
                     self.assertIsInstance(node.right, ast.Constant, name)
                 if isinstance(node, ast.Compare):
@@ -245,6 +252,8 @@ class Statements(unittest.TestCase):
         own = {part.name for _, tree in trees() for node in ast.walk(tree) if isinstance(node, ast.ClassDef)
                for part in node.body if isinstance(part, ast.FunctionDef)}
         for name, tree in trees():
+            changing = [part for node in tree.body if isinstance(node, ast.ClassDef) and node.name == CHANGING
+                        for part in node.body if isinstance(part, ast.FunctionDef) and part.name not in DOUBLE]
             for function in functions_of(tree):
                 fresh = made_here(function)
                 for node in ast.walk(function):
@@ -256,7 +265,8 @@ class Statements(unittest.TestCase):
                     if isinstance(node, ast.Subscript) and isinstance(node.ctx, ast.Store):
                         self.assertIn(ast.unparse(node.value), fresh, where)
                     if isinstance(node, ast.Attribute) and isinstance(node.ctx, ast.Store):
-                        self.assertEqual((function.name, ast.unparse(node.value)), ("__init__", "self"), where)
+                        self.assertEqual(ast.unparse(node.value), "self", where)
+                        self.assertTrue(function.name == "__init__" or function in changing, where)
                     if isinstance(node, ast.AugAssign):
                         self.assertIsInstance(node.op, ast.Add, where)
                         self.assertIsInstance(node.target, ast.Name, where)
@@ -270,6 +280,15 @@ class Statements(unittest.TestCase):
             for node in ast.walk(tree):
                 if isinstance(node, ast.Call) and isinstance(node.func, ast.Attribute):
                     self.assertNotIn(node.func.attr, stored, (name, node.lineno))
+
+    def test_what_changes_an_object_is_called_by_its_own_methods_alone(self):
+        changing = {"undo", "redo", "trial", "assume", "drop", "propose", "withdraw", "take", "turn"}
+        for name, tree in trees():
+            for function in functions_of(tree):
+                for node in ast.walk(function):
+                    if isinstance(node, ast.Call) and isinstance(node.func, ast.Attribute):
+                        if node.func.attr in changing:
+                            self.assertIn((name, function.name), [("ledgers.py", one) for one in changing])
 
     def test_the_look_at_what_is_modified(self):
         def own(text):
@@ -315,6 +334,9 @@ class Interface(unittest.TestCase):
                      "__sub__", "__invert__", "__pow__", "__contains__", "__bool__", "__le__", "__lt__", "__eq__"],
         readers.Reader: ["step", "ends", "way", "reads", "flow", "__len__", "__eq__"],
         meanings.Meaning: ["of_row", "truths", "states", "ways", "keeps", "ends", "leads", "__add__", "__eq__"],
+        programs.Program: ["lines", "flow", "known", "dead", "decided", "clean", "__len__", "__add__", "__eq__"],
+        ledgers.Ledger: ["flow", "book_now", "promises", "states", "state", "assume", "drop", "propose", "withdraw",
+                         "take", "undo", "redo", "trial", "__len__", "__contains__"],
     }
     PARAMETERS = {
         says.Say: {"test": ["name"], "yes": [], "no": [], "of_terms": ["terms"], "holds": ["true"],
@@ -328,9 +350,15 @@ class Interface(unittest.TestCase):
         meanings.Meaning: {"__init__": ["book", "size", "tests", "deeds"], "of_row": ["book", "row"],
                            "truths": ["state"], "states": ["say"], "ways": ["deed"], "keeps": ["promise"],
                            "ends": ["flow", "state"], "leads": ["flow"]},
+        programs.Program: {"__init__": ["book", "lines"], "lines": [], "flow": [], "known": ["say"], "dead": [],
+                           "decided": [], "clean": []},
+        ledgers.Ledger: {"__init__": ["flow"], "flow": [], "book_now": [], "promises": [], "states": [],
+                         "state": ["name"], "assume": ["name", "promise"], "drop": ["name"],
+                         "propose": ["name", "flow"], "withdraw": ["name"], "take": ["name"], "undo": [], "redo": [],
+                         "trial": ["work"]},
     }
     FILES = {says.Say: says, books.Book: books, flows.Flow: flows, readers.Reader: readers,
-             meanings.Meaning: meanings}
+             meanings.Meaning: meanings, programs.Program: programs, ledgers.Ledger: ledgers}
     FUNCTIONS = {
         flows: {"either": ["say", "p", "q"], "whilst": ["say", "p"]},
         readers: {"reader_of": ["flow"]},
@@ -339,6 +367,11 @@ class Interface(unittest.TestCase):
         holding: {"reached": ["say", "p"], "needed": ["p", "say"], "holds": ["before", "p", "behind"],
                   "breaking": ["before", "p", "behind"], "strongest_kept": ["say", "p"], "weakest_kept": ["p", "say"],
                   "when": ["p", "q"], "thereafter": ["p", "q"]},
+        promising: {"enough": ["p", "q", "promises"], "wanting": ["p", "q", "promises"],
+                    "shown": ["p", "q", "promises"]},
+        gaps: {"loosest": ["ahead", "whole", "behind"], "loosest_end": ["ahead", "whole"],
+               "loosest_start": ["whole", "behind"]},
+        programs: {"program_of": ["flow"]},
     }
 
     def test_classes_and_methods(self):

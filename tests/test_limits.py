@@ -6,10 +6,16 @@ from deedmeanings.books import Book
 from deedmeanings.comparing import cover, is_cover, is_parting, parting, unlike
 from deedmeanings.flows import Flow, either, whilst
 from deedmeanings.holding import holds, needed, reached, strongest_kept, thereafter, weakest_kept, when
+from deedmeanings.gaps import loosest, loosest_end, loosest_start
+from deedmeanings.ledgers import Ledger
+from deedmeanings.programs import Program, program_of
+from deedmeanings.promising import enough, shown, wanting
 from deedmeanings.readers import reader_of
 from deedmeanings.says import Say
 
 from tests.plain import all_truths, book_of, chances, flow_of, free_book, random_book, random_tree, say_of
+from tests.test_programs import random_line
+from tests.test_promising import kept_rows, random_promises
 
 TESTS = ["a", "b", "c", "x"]
 DEEDS = ["d", "e", "f", "g", "h"]
@@ -157,6 +163,66 @@ class Limits(unittest.TestCase):
                 self.assertIs(holds(kept, p, kept), True)
             self.assertTrue(Flow.check(book, when(p, q)) >> p <= q)
             self.assertTrue(p >> Flow.check(book, thereafter(p, q)) <= q)
+
+    def test_five_promises(self):
+        for plain in largest_books():
+            chance = chances(57)
+            book = book_of(plain)
+            promises = random_promises(chance, plain, 5)
+            d, e, check = Flow.deed(book, "d"), Flow.deed(book, "e"), some_check(chance, book)
+            p, q = (d | e).often() >> check >> d, kept_rows((d | e).often() >> check >> d, promises[:2])
+            self.assertTrue(any(set(some) <= {0, 1} for some in enough(p, q, promises)))
+            for some, row in zip(wanting(p, q, promises), shown(p, q, promises), strict=True):
+                self.assertTrue(row in (p - q).under(book.more([promises[place] for place in some])))
+
+    def test_gaps(self):
+        for plain in largest_books():
+            chance = chances(58)
+            book = book_of(plain)
+            d, e, check = Flow.deed(book, "d"), Flow.deed(book, "e"), some_check(chance, book)
+            ahead, behind, whole = (d >> check).often(), check >> (e | d), (d | e).often() >> check >> d ** 3
+            flow = loosest(ahead, whole, behind)
+            self.assertTrue(ahead >> flow >> behind <= whole)
+            self.assertEqual(flow, loosest_end(ahead, loosest_start(whole, behind)))
+        book = Book(TESTS, ["d"])
+        d = Flow.deed(book, "d")
+        whole = Flow.full(book) >> Flow.check(book, Say.test("x")) >> d ** 7
+        self.assertEqual(loosest(d.often(), whole, d), Flow.full(book) >> Flow.check(book, Say.test("x")) >> d ** 6)
+
+    def test_programs_of_twenty_lines(self):
+        for plain in largest_books():
+            chance = chances(59)
+            book = book_of(plain)
+            for _ in range(5):
+                lines = [random_line(chance, plain, 20, ("f", "g", "h")) for _ in range(20)]
+                program = Program(book, lines)
+                clean = program.clean()
+                self.assertEqual((clean.dead(), clean.decided()), ([], []))
+                self.assertEqual(clean.flow(), program.flow())
+                self.assertEqual((program + clean).flow(), program.flow() >> program.flow())
+                self.assertEqual(program_of(program.flow()).flow(), program.flow())
+                for say in program.known(Say.test("a")):
+                    self.assertTrue(set(say.tests()) <= set(TESTS))
+
+    def test_ledgers(self):
+        for plain in largest_books():
+            chance = chances(60)
+            book = book_of(plain)
+            first, *others = [flow_of(random_tree(chance, plain, 5, (">>", "|"), ("often", "whilst")), plain, book)
+                              for _ in range(6)]
+            ledger = Ledger(first)
+            for name, promise in zip("abcde", random_promises(chance, plain, 5)):
+                ledger.assume(name, promise)
+            for name, flow in zip("abcde", others):
+                ledger.propose(name, flow)
+                ledger.propose(name * 2, ledger.flow() & flow)
+            self.assertEqual(len(ledger), 10)
+            self.assertIn(ledger.state("aa"), ("same", "less"))
+            ledger.take("aa")
+            self.assertTrue(ledger.flow() <= first)
+            for _ in range(16):
+                ledger.undo()
+            self.assertEqual(ledger.flow(), first)
 
 
 if __name__ == "__main__":
