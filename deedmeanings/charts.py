@@ -20,25 +20,38 @@ class Chart:
         self.nexts = tuple([tuple(row) for row in nexts])
 
 
-def decided(machine):
-    """The chart whose places are the sets of places to which a machine may come by the same symbols."""
-    numbers = {0: -1, 1: 0}
-    queue = [1]
-    finals = []
-    nexts = []
-    while len(nexts) < len(queue):
-        ends = 0
-        row = [0] * len(machine.moves[0])
-        for place in members(queue[len(nexts)]):
-            ends = ends | machine.finals[place]
-            row = [mine | yours for mine, yours in zip(row, machine.moves[place])]
-        for mask in row:
-            if mask not in numbers:
-                numbers[mask] = len(queue)
-                queue.append(mask)
-        finals.append(ends)
-        nexts.append([numbers[mask] for mask in row])
-    return Chart(machine.width, finals, nexts)
+def decided(machine, steps):
+    """The chart whose places are the sets of places to which a machine comes by the same beginnings of rows.
+
+    If the machine is trimmed, the chart is so, too.
+    """
+    come = {1: (1 << (len(steps) // machine.width)) - 1}
+    queue = [(1, come[1])]
+    targets = {}
+    at = 0
+    while at < len(queue):
+        places, truths = queue[at]
+        at += 1
+        rows = [machine.moves[place] for place in members(places)]
+        for symbol in [rank * machine.width + deed for rank in members(truths) for deed in range(machine.width)]:
+            mask = 0
+            for row in rows:
+                mask = mask | row[symbol]
+            targets[(places, symbol)] = mask
+            if mask and steps[symbol] & ~come.get(mask, 0):
+                queue.append((mask, steps[symbol] & ~come.get(mask, 0)))
+                come[mask] = come.get(mask, 0) | steps[symbol]
+    numbers = dict([(0, -1)] + [(places, number) for number, places in enumerate(come)])
+    nexts = [[numbers[targets.get((places, symbol), 0)] for symbol in range(len(steps))] for places in come]
+    return Chart(machine.width, [ends_at(machine, places) & come[places] for places in come], nexts)
+
+
+def ends_at(machine, places):
+    """The mask of the truths at which a row may end at some of the places of a mask."""
+    ends = 0
+    for place in members(places):
+        ends = ends | machine.finals[place]
+    return ends
 
 
 def shortened(chart):
@@ -71,7 +84,7 @@ def numbered(keys):
 
 def chart_of(machine, steps):
     """The trimmed chart, with few places, of a trimmed machine."""
-    return shortened(reached_part(decided(machine), steps))
+    return shortened(decided(machine, steps))
 
 
 def chart_edges(chart, steps):
@@ -91,25 +104,6 @@ def last_truths(chart, steps, mask):
     for come, ends in zip(come_masks(mask, chart_edges(chart, steps)), chart.finals):
         found = found | come & ends
     return found
-
-
-def reached_part(chart, steps):
-    """The chart with just the places, moves and ends that some beginning of a row of a book comes to.
-
-    If the chart was made of a trimmed machine, some row goes on with each of them to its end.
-    """
-    edges = chart_edges(chart, steps)
-    come = come_masks((1 << (len(steps) // chart.width)) - 1, edges)
-    kept = [place for place, mask in enumerate(come) if mask]
-    numbers = {place: number for number, place in enumerate(kept)}
-    nexts = []
-    for place in kept:
-        kept_row = [-1 for _ in steps]
-        for symbol, bit, _, targets in edges[place]:
-            if bit & come[place]:
-                kept_row[symbol] = numbers[targets[0]]
-        nexts.append(kept_row)
-    return Chart(chart.width, [chart.finals[place] & come[place] for place in kept], nexts)
 
 
 def machine_of(chart):
