@@ -41,9 +41,9 @@ def decided(machine, steps):
             if mask and steps[symbol] & ~come.get(mask, 0):
                 queue.append((mask, steps[symbol] & ~come.get(mask, 0)))
                 come[mask] = come.get(mask, 0) | steps[symbol]
-    numbers = dict([(0, -1)] + [(places, number) for number, places in enumerate(come)])
-    nexts = [[numbers[targets.get((places, symbol), 0)] for symbol in range(len(steps))] for places in come]
-    return Chart(machine.width, [ends_at(machine, places) & come[places] for places in come], nexts)
+    numbers = dict([(0, -1)] + [(found, number) for number, found in enumerate(come)])
+    nexts = [[numbers[targets.get((found, column), 0)] for column in range(len(steps))] for found in come]
+    return Chart(machine.width, [ends_at(machine, found) & come[found] for found in come], nexts)
 
 
 def ends_at(machine, places):
