@@ -7,8 +7,11 @@ its steps: the masks of the truths that may come behind each symbol.
 No function here changes what it is passed.
 """
 
-from deedmeanings.machines import Machine, come_masks, live_masks
+from deedmeanings.machines import Machine, come_masks, live_masks, stand_ins
 from deedmeanings.names import members
+
+# So many sets of places are few.
+FEW = 3000
 
 
 class Chart:
@@ -20,16 +23,20 @@ class Chart:
         self.nexts = tuple([tuple(row) for row in nexts])
 
 
-def decided(machine, steps):
+def decided(machine, steps, others, most):
     """The chart whose places are the sets of places to which a machine comes by the same beginnings of rows.
 
-    If the machine is trimmed, the chart is so, too.
+    Places for which others stand in are left out of sets. Returns None if there are more sets than a
+    number. If the machine is trimmed, the chart is so, too.
     """
     come = {1: (1 << (len(steps) // machine.width)) - 1}
     queue = [(1, come[1])]
+    shorter = {0: 0}
     targets = {}
     at = 0
     while at < len(queue):
+        if len(come) > most:
+            return None
         places, truths = queue[at]
         at += 1
         rows = [machine.moves[place] for place in members(places)]
@@ -37,6 +44,9 @@ def decided(machine, steps):
             mask = 0
             for row in rows:
                 mask = mask | row[symbol]
+            if mask not in shorter:
+                shorter[mask] = without_idle(mask, others)
+            mask = shorter[mask]
             targets[(places, symbol)] = mask
             if mask and steps[symbol] & ~come.get(mask, 0):
                 queue.append((mask, steps[symbol] & ~come.get(mask, 0)))
@@ -44,6 +54,15 @@ def decided(machine, steps):
     numbers = dict([(0, -1)] + [(found, number) for number, found in enumerate(come)])
     nexts = [[numbers[targets.get((found, column), 0)] for column in range(len(steps))] for found in come]
     return Chart(machine.width, [ends_at(machine, found) & come[found] for found in come], nexts)
+
+
+def without_idle(places, others):
+    """The mask of places but for those for which others, told for each place, that are left in it stand in."""
+    left = places
+    for place in members(places):
+        if left & others[place] & ~(1 << place):
+            left = left ^ 1 << place
+    return left
 
 
 def ends_at(machine, places):
@@ -84,7 +103,12 @@ def numbered(keys):
 
 def chart_of(machine, steps):
     """The trimmed chart, with few places, of a trimmed machine."""
-    return shortened(decided(machine, steps))
+    size = len(machine.finals)
+    chart = decided(machine, steps, [0] * size, FEW)
+    if chart is None:
+        # Only where there are many sets it takes less time to look first for what may be left out of them.
+        chart = decided(machine, steps, stand_ins(machine), 1 << size)
+    return shortened(chart)
 
 
 def chart_edges(chart, steps):
@@ -197,25 +221,35 @@ def leaves_no_choice(chart):
 
 def count_rows(chart, steps, length):
     """The number of rows of a length."""
-    truths = len(steps) // chart.width
-    ways = [[mask >> last & 1 for last in range(truths)] for mask in chart.finals]
+    heads, starts, keys = points_alike(chart, steps)
+    ways = [end for end, _ in keys]
     for _ in range(length):
-        ways = ways_behind(chart, steps, ways)
-    return sum(ways[0])
+        sums = [sum([ways[number] for number in head]) for head in heads]
+        ways = [sum([sums[pair] for pair in pairs]) for _, pairs in keys]
+    return sum([ways[number] for number in starts])
 
 
-def ways_behind(chart, steps, ways):
-    """For each place and truths the number of rows that go on with one deed more than ways tells of."""
-    sums = {}
-    for row in chart.nexts:
-        for symbol, target in enumerate(row):
-            if target >= 0 and (target, steps[symbol]) not in sums:
-                sums[(target, steps[symbol])] = sum([ways[target][last] for last in members(steps[symbol])])
-    found = []
-    for row in chart.nexts:
-        told = [sums[(target, steps[symbol])] if target >= 0 else 0 for symbol, target in enumerate(row)]
-        found.append([sum(told[at:at + chart.width]) for at in range(0, len(told), chart.width)])
-    return found
+def points_alike(chart, steps):
+    """A place with truths is a point; points are alike if rows end and go on there in the same way.
+
+    Where rows go on, they come to a pair of a place and the truths that may stand there. Told are: for each
+    pair the numbers of its points, those of the points of place 0, and for each number whether rows end
+    there and to which pairs they go on.
+    """
+    count = len(steps) // chart.width
+    numbers = {}
+    for pair in [pair for row in chart.nexts for pair in zip(row, steps) if pair[0] >= 0]:
+        if pair not in numbers:
+            numbers[pair] = len(numbers)
+    keys = []
+    for row, ends in zip(chart.nexts, chart.finals):
+        behind = [numbers.get(pair, -1) for pair in zip(row, steps)]
+        for rank in range(count):
+            onward = behind[rank * chart.width:(rank + 1) * chart.width]
+            keys.append((ends >> rank & 1, tuple([number for number in onward if number >= 0])))
+    found, firsts = numbered(keys)
+    heads = [[found[place * count + last] for last in members(truths)] for place, truths in numbers]
+    return heads, found[:count], [keys[first] for first in firsts]
 
 
 def layers_of(chart, steps, length):

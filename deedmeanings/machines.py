@@ -149,6 +149,40 @@ def sources_of(machine):
     return came
 
 
+def stand_ins(machine):
+    """For each place the mask of those that stand in for it: each move and end of it is one of theirs, too.
+
+    Each place to which a move of it leads has a place among those to which theirs lead that stands in for it.
+    So what is read from a place is read from each of them.
+    """
+    came = sources_of(machine)
+    found = [mask_of([other for other, ends in enumerate(machine.finals) if not mask & ~ends])
+             for mask in machine.finals]
+    before = []
+    while found != before:
+        before = found
+        found = fewer_stand_ins(machine, came, before)
+    return found
+
+
+def fewer_stand_ins(machine, came, before):
+    """Those that stand in for each place by one move, if they do so behind it as was told before."""
+    behind = {}
+    for target, symbol in came:
+        if (before[target], symbol) not in behind:
+            mask = 0
+            for other in members(before[target]):
+                mask = mask | came.get((other, symbol), 0)
+            behind[(before[target], symbol)] = mask
+    found = []
+    for row, mask in zip(machine.moves, before):
+        for symbol, targets in enumerate(row):
+            for target in members(targets):
+                mask = mask & behind[(before[target], symbol)]
+        found.append(mask)
+    return found
+
+
 def backward_row(sources, into):
     """The moves, of a machine read backwards, with the places where it may stand at each truths."""
     row = []
