@@ -7,11 +7,8 @@ its steps: the masks of the truths that may come behind each symbol.
 No function here changes what it is passed.
 """
 
-from deedmeanings.machines import Machine, come_masks, live_masks, stand_ins
+from deedmeanings.machines import Machine, come_masks, live_masks
 from deedmeanings.names import members
-
-# So many sets of places are few.
-FEW = 3000
 
 
 class Chart:
@@ -21,71 +18,6 @@ class Chart:
         self.width = width
         self.finals = tuple(finals)
         self.nexts = tuple([tuple(row) for row in nexts])
-
-
-def decided(machine, steps, others, most):
-    """The chart whose places are the sets of places to which a machine comes by the same beginnings of rows.
-
-    Places for which others stand in are left out of sets. Returns None if there are more sets than a
-    number. If the machine is trimmed, the chart is so, too.
-    """
-    come = {1: (1 << (len(steps) // machine.width)) - 1}
-    queue = [(1, come[1])]
-    shorter = {0: 0}
-    targets = {}
-    at = 0
-    while at < len(queue):
-        if len(come) > most:
-            return None
-        places, truths = queue[at]
-        at += 1
-        rows = [machine.moves[place] for place in members(places)]
-        for symbol in [rank * machine.width + deed for rank in members(truths) for deed in range(machine.width)]:
-            mask = 0
-            for row in rows:
-                mask = mask | row[symbol]
-            if mask not in shorter:
-                shorter[mask] = without_idle(mask, others)
-            mask = shorter[mask]
-            targets[(places, symbol)] = mask
-            if mask and steps[symbol] & ~come.get(mask, 0):
-                queue.append((mask, steps[symbol] & ~come.get(mask, 0)))
-                come[mask] = come.get(mask, 0) | steps[symbol]
-    numbers = dict([(0, -1)] + [(found, number) for number, found in enumerate(come)])
-    nexts = [[numbers[targets.get((found, column), 0)] for column in range(len(steps))] for found in come]
-    return Chart(machine.width, [ends_at(machine, found) & come[found] for found in come], nexts)
-
-
-def without_idle(places, others):
-    """The mask of places but for those for which others, told for each place, that are left in it stand in."""
-    left = places
-    for place in members(places):
-        if left & others[place] & ~(1 << place):
-            left = left ^ 1 << place
-    return left
-
-
-def ends_at(machine, places):
-    """The mask of the truths at which a row may end at some of the places of a mask."""
-    ends = 0
-    for place in members(places):
-        ends = ends | machine.finals[place]
-    return ends
-
-
-def shortened(chart):
-    """The chart with places of which the same can be read made one."""
-    blocks = numbered([(mask,) for mask in chart.finals])
-    before = 0
-    while before < len(blocks[1]):
-        before = len(blocks[1])
-        # What stands behind the last place is found at -1, which tells of no place.
-        told = blocks[0] + [-1]
-        blocks = numbered([(told[place],) + tuple([told[target] for target in row])
-                           for place, row in enumerate(chart.nexts)])
-    told = blocks[0] + [-1]
-    nexts = [[told[target] for target in chart.nexts[place]] for place in blocks[1]]
-    return Chart(chart.width, [chart.finals[place] for place in blocks[1]], nexts)
 
 
 def numbered(keys):
@@ -99,16 +31,6 @@ def numbered(keys):
             firsts.append(place)
         found.append(numbers[key])
     return found, firsts
-
-
-def chart_of(machine, steps):
-    """The trimmed chart, with few places, of a trimmed machine."""
-    size = len(machine.finals)
-    chart = decided(machine, steps, [0] * size, FEW)
-    if chart is None:
-        # Only where there are many sets it takes less time to look first for what may be left out of them.
-        chart = decided(machine, steps, stand_ins(machine), 1 << size)
-    return shortened(chart)
 
 
 def chart_edges(chart, steps):

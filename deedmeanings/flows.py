@@ -1,7 +1,8 @@
 """Flows: sets of rows of a book, and how they are put together."""
 
-from deedmeanings.charts import all_rows, chart_of, count_rows, first_row, goes_on_for_ever, has_row, has_rows
+from deedmeanings.charts import all_rows, count_rows, first_row, goes_on_for_ever, has_row, has_rows
 from deedmeanings.charts import is_within, leaves_no_choice, machine_of, opposite, shortest
+from deedmeanings.deciding import chart_of
 from deedmeanings.errors import BadCount, NoTest, UnlikeBooks
 from deedmeanings.machines import backwards, beginnings, checked, done, joined, repeated, shared, trimmed
 from deedmeanings.machines import unbounded, united

@@ -1,13 +1,13 @@
 """Readers: what reads just the rows of a flow, with as few places as can be.
 
-The chart of a flow takes rows without regard to the steps that the book lets. A place of the reader is
-a place of the chart with the truths that may stand there, and those of which the same can be read on
-are one. A POINT is a place of the chart with one of these truths.
+The chart of a flow takes rows without regard to the steps that the book lets. The places of the reader are
+the kinds of places of the chart with the truths that may stand there.
 """
 
-from deedmeanings.charts import Chart, has_row, numbered
+from deedmeanings.charts import Chart, has_row
 from deedmeanings.errors import NoPlace
-from deedmeanings.names import is_integer, members, numbers_of
+from deedmeanings.names import is_integer, members
+from deedmeanings.points import Kinds
 from deedmeanings.rows import numbers_by_turns
 
 
@@ -80,76 +80,24 @@ def way_told(book, symbols):
 
 
 def least_chart(chart, steps):
-    """A pair: the chart with the places of the reader, in order, and the list of their ways, told by symbols."""
-    pairs = pairs_reached(chart, steps)
-    numbers = numbers_of(pairs)
-    # Where no step of the chart leads on, or none to truths that may stand there, -1 tells of no pair.
-    targets = [[numbers.get((target, mask), -1) for target, mask in zip(row, steps)] for row in chart.nexts]
-    classes = [0] * len(pairs)
-    firsts = [0]
-    before = 0
-    while before < len(firsts):
-        before = len(firsts)
-        points = point_classes(chart, targets, classes)
-        classes, firsts = numbered([pair_key(points, len(steps) // chart.width, pair) for pair in pairs])
-    return in_order_of_ways(chart, pairs, targets, classes, firsts)
-
-
-def pairs_reached(chart, steps):
-    """The list of the pairs of a place and the truths that may stand there; the place 0 with all is first."""
-    start = (0, (1 << (len(steps) // chart.width)) - 1)
-    known = {start: True}
-    pairs = [start]
-    at = 0
-    while at < len(pairs):
-        place, truths = pairs[at]
-        at += 1
-        for symbol, target in enumerate(chart.nexts[place]):
-            pair = (target, steps[symbol])
-            if target >= 0 and truths >> (symbol // chart.width) & 1 and pair not in known:
-                known[pair] = True
-                pairs.append(pair)
-    return pairs
-
-
-def point_classes(chart, targets, classes):
-    """For each point a number, behind a first one, 0, which is that of points at which nothing can be read."""
-    width = chart.width
-    told = list(classes) + [-1]
-    keys = [(0,) + (-1,) * width]
-    for row, ends in zip(targets, chart.finals):
-        for rank in range(len(row) // width):
-            behind = tuple([told[target] for target in row[rank * width:(rank + 1) * width]])
-            keys.append((ends >> rank & 1,) + behind)
-    found, _ = numbered(keys)
-    return found
-
-
-def pair_key(points, count, pair):
-    """The tuple of the numbers of the points of a pair, 0 for truths that may not stand there."""
-    place, truths = pair
-    start = place * count + 1
-    return tuple([points[start + rank] if truths >> rank & 1 else 0 for rank in range(count)])
-
-
-def in_order_of_ways(chart, pairs, targets, classes, firsts):
-    """A pair: the chart whose places are classes of pairs, in the order of their ways, and these ways."""
-    order = [classes[0]]
-    numbers = {classes[0]: 0}
+    """A pair: the chart with the places of the reader, in order of their ways, and these ways, told by symbols."""
+    kinds = Kinds(chart, steps)
+    order = [0]
+    numbers = {0: 0}
     ways = [()]
     nexts = []
     while len(nexts) < len(order):
-        place, truths = pairs[firsts[order[len(nexts)]]]
+        place, truths = kinds.pairs[kinds.examples[order[len(nexts)]]]
         row = []
-        for symbol, target in enumerate(targets[place]):
-            if target < 0 or not truths >> (symbol // chart.width) & 1:
+        for symbol, pair in enumerate(kinds.targets[place]):
+            if pair < 0 or not truths >> (symbol // chart.width) & 1:
                 row.append(-1)
                 continue
-            if classes[target] not in numbers:
-                numbers[classes[target]] = len(order)
-                order.append(classes[target])
+            if kinds.kind_of[pair] not in numbers:
+                numbers[kinds.kind_of[pair]] = len(order)
+                order.append(kinds.kind_of[pair])
                 ways.append(ways[len(nexts)] + (symbol,))
-            row.append(numbers[classes[target]])
+            row.append(numbers[kinds.kind_of[pair]])
         nexts.append(row)
-    ends = [chart.finals[place] & truths for place, truths in [pairs[firsts[block]] for block in order]]
-    return Chart(chart.width, ends, nexts), ways
+    examples = [kinds.pairs[kinds.examples[kind]] for kind in order]
+    return Chart(chart.width, [chart.finals[place] & truths for place, truths in examples], nexts), ways

@@ -117,6 +117,19 @@ class Limits(unittest.TestCase):
             self.assertEqual(flow.put("d", Flow.stop(book)).first(), None)
             self.assertIs(flow.first() in flow, True)
 
+    def test_put_into_flows_that_lack_little(self):
+        # Very many sets of places are come to, but most of their places stand in for one another.
+        plain = random_book(chances(7), TESTS, DEEDS, 0.7)
+        book = book_of(plain)
+        d, e, h = [Flow.deed(book, deed) for deed in ("d", "e", "h")]
+        check = some_check(chances(61), book)
+        for whole, part in (((check | ~d >> e).often(), ~(check >> e)),
+                            ((~(check | ~d >> e)).often(), ~(check >> e >> h.often()))):
+            flow = whole.put("d", part)
+            self.assertEqual(flow.count(60) + (~flow).count(60), Flow.full(book).count(60))
+            self.assertTrue(flow.put("d", Flow.stop(book)) <= flow)
+            self.assertEqual(reader_of(flow), reader_of(~~flow))
+
     def test_a_free_book_has_what_is_counted(self):
         book = book_of(free_book(TESTS, DEEDS))
         flow = Flow.full(book) >> Flow.deed(book, "h") >> Flow.deed(book, "g") ** 3
