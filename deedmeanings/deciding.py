@@ -121,21 +121,18 @@ def homes_of(kinds, count):
     masks = [0 for _ in kinds.examples]
     for kind, pair in zip(kinds.kind_of, kinds.pairs):
         masks[kind] = masks[kind] | pair[1]
-    free = [0 for _ in range(count)]
+    standing = {}
     taken = {}
     homes = [0 for _ in masks]
     many = 0
     for kind in larger_first(masks, count):
         fits = (1 << many) - 1
         for point in [(truths, kinds.readings[kind][truths]) for truths in members(masks[kind])]:
-            fits = fits & (free[point[0]] | taken.get(point, 0))
-        if not fits:
-            fits = 1 << many
-            many += 1
-            free = [mask | fits for mask in free]
-        home = fits & -fits
+            fits = fits & (taken.get(point, 0) | ~standing.get(point[0], 0))
+        home = fits & -fits if fits else 1 << many
+        many = many if fits else many + 1
         for point in [(truths, kinds.readings[kind][truths]) for truths in members(masks[kind])]:
-            free[point[0]] = free[point[0]] & ~home
+            standing[point[0]] = standing.get(point[0], 0) | home
             taken[point] = taken.get(point, 0) | home
         homes[kind] = home.bit_length() - 1
     return homes
