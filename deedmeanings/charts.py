@@ -141,39 +141,6 @@ def leaves_no_choice(chart):
     return True
 
 
-def count_rows(chart, steps, length):
-    """The number of rows of a length."""
-    heads, starts, keys = points_alike(chart, steps)
-    ways = [end for end, _ in keys]
-    for _ in range(length):
-        sums = [sum([ways[number] for number in head]) for head in heads]
-        ways = [sum([sums[pair] for pair in pairs]) for _, pairs in keys]
-    return sum([ways[number] for number in starts])
-
-
-def points_alike(chart, steps):
-    """A place with truths is a point; points are alike if rows end and go on there in the same way.
-
-    Where rows go on, they come to a pair of a place and the truths that may stand there. Told are: for each
-    pair the numbers of its points, those of the points of place 0, and for each number whether rows end
-    there and to which pairs they go on.
-    """
-    count = len(steps) // chart.width
-    numbers = {}
-    for pair in [pair for row in chart.nexts for pair in zip(row, steps) if pair[0] >= 0]:
-        if pair not in numbers:
-            numbers[pair] = len(numbers)
-    keys = []
-    for row, ends in zip(chart.nexts, chart.finals):
-        behind = [numbers.get(pair, -1) for pair in zip(row, steps)]
-        for rank in range(count):
-            onward = behind[rank * chart.width:(rank + 1) * chart.width]
-            keys.append((ends >> rank & 1, tuple([number for number in onward if number >= 0])))
-    found, firsts = numbered(keys)
-    heads = [[found[place * count + last] for last in members(truths)] for place, truths in numbers]
-    return heads, found[:count], [keys[first] for first in firsts]
-
-
 def layers_of(chart, steps, length):
     """For each number of deeds up to a length, and each place, the truths from which so many lead to an end."""
     layers = [list(chart.finals)]

@@ -1,7 +1,8 @@
 """Flows: sets of rows of a book, and how they are put together."""
 
-from deedmeanings.charts import all_rows, count_rows, first_row, goes_on_for_ever, has_row, has_rows
+from deedmeanings.charts import all_rows, first_row, goes_on_for_ever, has_row, has_rows
 from deedmeanings.charts import is_within, leaves_no_choice, machine_of, opposite, shortest
+from deedmeanings.counting import counted, layers_of_counts
 from deedmeanings.deciding import chart_of
 from deedmeanings.errors import BadCount, NoTest, UnlikeBooks
 from deedmeanings.machines import backwards, beginnings, checked, done, joined, repeated, shared, trimmed
@@ -9,6 +10,7 @@ from deedmeanings.machines import unbounded, united
 from deedmeanings.names import is_integer
 from deedmeanings.putting import put_in
 from deedmeanings.rows import row_by_numbers, row_told
+from deedmeanings.spots import free_spots
 
 
 class Flow:
@@ -101,7 +103,8 @@ class Flow:
     def count(self, n):
         """The number of rows of a length."""
         check_count(n)
-        return count_rows(self._chart, self.book.steps(), n)
+        spots = free_spots(self._chart, self.book.steps())
+        return counted(spots, layers_of_counts(spots, n)[n])
 
     def rows(self, n):
         """The ascending list of the rows of a length."""
