@@ -2,13 +2,15 @@
 
 import unittest
 
-from deedmeanings.charts import (chart_edges, count_rows, goes_on_for_ever, has_rows, is_within, leaves_no_choice)
+from deedmeanings.charts import chart_edges, goes_on_for_ever, has_rows, is_within, leaves_no_choice
+from deedmeanings.counting import counted, layers_of_counts
 from deedmeanings.deciding import decided, fitted, shortened
 from deedmeanings.machines import (backwards, beginnings, come_masks, joined, live_masks, repeated, shared, stand_ins,
                                    trimmed)
 from deedmeanings.names import members
 from deedmeanings.putting import put_in
 from deedmeanings.readers import least_chart
+from deedmeanings.spots import free_spots
 
 from tests.plain import book_of, chances, flow_of, random_book, random_tree
 
@@ -28,6 +30,12 @@ def machines_of(seed, many):
                                (repeated(one), book.steps()), (beginnings(other), book.steps()),
                                (shared(one, other), book.steps()), (backwards(one), book.turned().steps())):
             yield trimmed(machine, steps), steps
+
+
+def counts(chart, steps):
+    spots = free_spots(chart, steps)
+    layers = layers_of_counts(spots, 7)
+    return [counted(spots, layers[length]) for length in (0, 1, 2, 7)]
 
 
 class Deciding(unittest.TestCase):
@@ -59,8 +67,7 @@ class Deciding(unittest.TestCase):
             for chart in (first, less, fitted(first, steps), fitted(shortened(less), steps), fitted(sets, steps)):
                 self.check_trimmed(chart, steps)
                 self.assertTrue(is_within(chart, sets, steps) and is_within(sets, chart, steps))
-                self.assertEqual([count_rows(chart, steps, length) for length in (0, 1, 2, 7)],
-                                 [count_rows(sets, steps, length) for length in (0, 1, 2, 7)])
+                self.assertEqual(counts(chart, steps), counts(sets, steps))
                 self.assertEqual(has_rows(chart), has_rows(sets))
                 self.assertEqual(leaves_no_choice(chart), leaves_no_choice(sets))
                 self.assertEqual(goes_on_for_ever(chart, steps), goes_on_for_ever(sets, steps))
