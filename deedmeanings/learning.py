@@ -113,7 +113,8 @@ class Learner:
         self._classes[self._keys[number]] = number
         start = len(self._firsts)
         self.class_of(word)
-        for pair in [pair for pair in self._leads if self._leads[pair] == number]:
+        again = [pair for pair in self._leads if self._leads[pair] == number]
+        for pair in again:
             self._leads[pair] = self.class_of(self._firsts[pair[0]] + (pair[1],))
         self.look_up(start)
 
