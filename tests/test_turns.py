@@ -3,19 +3,30 @@
 import copy
 import unittest
 
+from deedmeanings.barring import barred, bars_enough, bars_shown, bars_wanting
+from deedmeanings.chances import Chances
 from deedmeanings.comparing import cover, is_cover, parting, unlike
 from deedmeanings.flows import Flow
 from deedmeanings.gaps import loosest
 from deedmeanings.holding import breaking, holds, needed, reached, strongest_kept, thereafter, weakest_kept, when
+from deedmeanings.learning import told_back
 from deedmeanings.ledgers import Ledger
 from deedmeanings.meanings import Meaning
+from deedmeanings.plans import best_plan, is_plan, is_trap, sure_from, trap, turns_needed
+from deedmeanings.prices import Prices
 from deedmeanings.programs import Program, program_of
 from deedmeanings.promising import enough, shown, wanting
+from deedmeanings.ranking import index_of, number_of, row_at, row_number
 from deedmeanings.readers import reader_of
 from deedmeanings.says import Say
+from deedmeanings.systems import System
+from deedmeanings.texts import (read_book, read_flow, read_program, read_say, write_book, write_flow, write_program,
+                                write_say)
 
 from tests.plain import all_truths, book_of, chances, flow_of, random_book, random_tree, say_of
+from tests.test_chances import random_weights, sure_tree
 from tests.test_meanings import random_meaning
+from tests.test_prices import random_costs
 from tests.test_programs import random_lines
 from tests.test_promising import random_promises
 
@@ -44,6 +55,9 @@ class Case:
         self.lines = random_lines(self.chance, self.plain, 8)
         self.meaning = random_meaning(self.chance, self.plain, 5)[1:]
         self.promises = random_promises(self.chance, self.plain, 3)
+        self.costs = random_costs(self.chance, self.plain)
+        self.weights = random_weights(self.chance, self.plain)
+        self.sure = sure_tree(self.chance, self.plain, 3)
         self.say = say_of(self.plain[0], [truths for truths in all_truths(self.plain[0]) if self.chance.random() < 0.5])
 
     def flows(self):
@@ -81,6 +95,46 @@ class Case:
         asked += [lambda call=call: call(p, q, self.promises) for call in (enough, wanting, shown)]
         return asked + [lambda: p, lambda: q, lambda: r]
 
+    def of_texts(self):
+        p = self.flows()[0]
+        program = Program(self.book, self.lines)
+        return [lambda: write_say(self.say), lambda: read_say(write_say(self.say)), lambda: write_flow(p),
+                lambda: read_flow(self.book, write_flow(p)), lambda: write_book(self.book),
+                lambda: read_book(write_book(self.book)), lambda: write_program(program),
+                lambda: read_program(self.book, write_program(program)), lambda: self.book]
+
+    def of_bars_plans_and_places(self):
+        p, q, r = self.flows()
+        bars = [r, Flow.deed(self.book, "d")]
+        asked = [lambda call=call: call(p, q, bars) for call in (bars_enough, bars_wanting, bars_shown)]
+        asked += [lambda: barred(p, r), lambda: sure_from(p), lambda: best_plan(p), lambda: trap(p),
+                  lambda: is_plan(p, best_plan(p), self.say), lambda: is_trap(p, trap(p))]
+        asked += [lambda truths=truths: turns_needed(q, truths) for truths in self.book.truths()]
+        full = Flow.full(self.book)
+        asked += [lambda: row_at(full, 0, 2), lambda: index_of(full, (("y", "x"),)), lambda: row_number(full, 3),
+                  lambda: number_of(full, (["x"],))]
+
+        def differ(flow):
+            return ((flow - p) | (p - flow)).first()
+        return asked + [lambda: told_back(self.book, lambda row: row in p, differ), lambda: p]
+
+    def of_prices_chances_and_systems(self):
+        p, q, r = self.flows()
+        sure = flow_of(self.sure, self.plain, self.book)
+        prices, shares = Prices(self.book, self.costs), Chances(self.book, self.weights)
+        equations = {"a": [(p, "b"), (r, None)], "b": [(q, "a"), (p, "b")]}
+        system = System(self.book, equations)
+        asked = [lambda ask=ask: ask(p) for ask in (prices.least, prices.greatest, prices.cheapest, prices.dearest,
+                                                    prices.some_purse, prices.every_purse)]
+        asked += [lambda: prices.paid(q, 3, 5), lambda: prices.of(((),)), lambda: shares.of(((),))]
+        for truths in self.book.truths():
+            asked += [lambda truths=truths: shares.ends(sure, truths), lambda truths=truths: shares.mean(sure, truths),
+                      lambda truths=truths: shares.early(sure, truths, 4),
+                      lambda truths=truths: shares.end(sure, truths, ())]
+        return asked + [lambda: system.least("a"), lambda: system.greatest("b"), system.unknowns, system.is_one,
+                        lambda: system.solves({name: system.least(name) for name in "ab"}),
+                        lambda: prices.book, lambda: shares.book, lambda: system.book]
+
     def of_ledgers(self):
         p, q, r = self.flows()
         ledger = Ledger(p)
@@ -91,7 +145,8 @@ class Case:
         return [call for deed in deeds for call in [deed] + asked]
 
     def all_calls(self):
-        return [self.of_readers(), self.of_meanings(), self.of_programs(), self.of_flows(), self.of_ledgers()]
+        return [self.of_readers(), self.of_meanings(), self.of_programs(), self.of_flows(), self.of_texts(),
+                self.of_bars_plans_and_places(), self.of_prices_chances_and_systems(), self.of_ledgers()]
 
 
 class Turns(unittest.TestCase):
@@ -110,7 +165,7 @@ class Turns(unittest.TestCase):
     def test_what_is_told_is_new(self):
         for seed in range(12):
             case = Case(seed)
-            kept = copy.deepcopy((case.lines, case.meaning, case.promises))
+            kept = copy.deepcopy((case.lines, case.meaning, case.promises, case.costs, case.weights))
             # A deed of a ledger is not done twice.
             asked = [call for calls in case.all_calls()[:-1] for call in calls]
             told = [call() for call in asked]
@@ -118,7 +173,7 @@ class Turns(unittest.TestCase):
             self.assertEqual(told, spoiled)
             spoil(spoiled)
             self.assertEqual([call() for call in asked], told)
-            self.assertEqual((case.lines, case.meaning, case.promises), kept)
+            self.assertEqual((case.lines, case.meaning, case.promises, case.costs, case.weights), kept)
 
     def test_what_ledgers_tell_is_new(self):
         for seed in range(12):
