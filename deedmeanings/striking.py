@@ -18,7 +18,7 @@ END = -2
 ALONE = 0
 SEQUENCE = 1
 CHOICE = 2
-SKIP = (ALONE, "[1]")
+SKIP = (0, "[1]")
 # So long are the signs and parentheses, about, that come by joining two texts.
 SIGNS = 5
 # Where a text is longer than that, another way is looked for.

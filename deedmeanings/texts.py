@@ -13,6 +13,7 @@ FLOW_SIGNS = ";+*()["
 FLOW_BINDING = {"+": 1, ";": 2}
 # Machines with more places are made smaller while a flow is read.
 MANY_PLACES = 20
+ANSWERS = {"yes": True, "no": False}
 DIGITS = "0123456789"
 # Greater numbers are none of lines.
 LONGEST_NUMBER = 9
@@ -166,15 +167,15 @@ def line_told(line):
     """The line of a program that a line of a text tells, or what is no line."""
     word, _, rest = line.partition(" ")
     if word in ("if", "flag"):
-        thing, go, at = rest.rpartition(" go ")
-        return (word, say_between(thing) if word == "if" else thing, number_told(at)) if go else None
+        thing, _, at = rest.rpartition(" go ")
+        return (word, say_between(thing) if word == "if" else thing, number_told(at))
     if word in ("jump", "either"):
         return (word, number_told(rest))
     if word == "check":
         return (word, say_between(rest))
     if word == "set":
         flag, _, answer = rest.partition(" ")
-        return (word, flag, {"yes": True, "no": False}.get(answer))
+        return (word, flag, ANSWERS.get(answer))
     if word == "do":
         return (word, rest)
     return ("end",) if line == "end" else None
