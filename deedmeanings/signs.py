@@ -82,7 +82,7 @@ def term_text(yes, no):
 def say_told(text):
     """The say that a text tells, None for any object that is no text of a say."""
     pieces = pieces_of(text, SAY_SIGNS) if isinstance(text, str) else None
-    order = None if pieces is None else put_in_order(pieces, SAY_BINDING)
+    order = None if pieces is None else put_in_order(pieces, dict(SAY_BINDING))
     if order is None or not all([is_name(piece) or piece in SAY_SIGNS for piece in order]):
         return None
     says = []

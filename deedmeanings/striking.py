@@ -22,7 +22,7 @@ SKIP = (0, "[1]")
 # So long are the signs and parentheses, about, that come by joining two texts.
 SIGNS = 5
 # Where a text is longer than that, another way is looked for.
-LONG = 2000
+LONG = 20000
 FEW_PLACES = 40
 
 

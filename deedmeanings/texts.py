@@ -40,7 +40,7 @@ def write_flow(flow):
 def read_flow(book, text):
     """The flow that a text tells."""
     pieces = pieces_of(text, FLOW_SIGNS) if isinstance(text, str) else None
-    order = None if pieces is None else put_in_order(pieces, FLOW_BINDING)
+    order = None if pieces is None else put_in_order(pieces, dict(FLOW_BINDING))
     if order is None:
         raise BadText()
     # What stands several times in a text is made into a machine once.

@@ -233,6 +233,23 @@ class Statements(unittest.TestCase):
                 self.assertTrue(docstring or isinstance(node, (ast.ImportFrom, ast.FunctionDef, ast.ClassDef,
                                                                ast.Assign)), (name, node.lineno))
 
+    def test_lists_and_dicts_at_module_level(self):
+        """They are only read where they stand, or copied."""
+        tables = {node.targets[0].id for _, tree in trees() for node in tree.body if isinstance(node, ast.Assign)
+                  and isinstance(node.value, (ast.List, ast.Dict))}
+        self.assertIn("KINDS", tables)
+        for name, tree in trees():
+            above = {child: node for node in ast.walk(tree) for child in ast.iter_child_nodes(node)}
+            for node in ast.walk(tree):
+                if not isinstance(node, ast.Name) or node.id not in tables or isinstance(node.ctx, ast.Store):
+                    continue
+                around = above[node]
+                read = isinstance(around, ast.Subscript) and around.value is node and isinstance(around.ctx, ast.Load)
+                told = isinstance(around, ast.Attribute) and around.attr == "get"
+                asked = isinstance(around, ast.Compare) and node in around.comparators
+                copied = isinstance(around, ast.Call) and ast.unparse(around.func) in ("dict", "list", "len")
+                self.assertTrue(read or told or asked or copied, (name, node.lineno))
+
     def test_what_is_sorted(self):
         for name, tree in trees():
             for node in ast.walk(tree):
