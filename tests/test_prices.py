@@ -9,7 +9,8 @@ from deedmeanings.prices import Prices
 from deedmeanings.readers import reader_of
 from deedmeanings.says import Say
 
-from tests.plain import all_truths, flow_of, rows_of, say_of
+from tests.plain import all_truths, book_of, chances, flow_of, rows_of, say_of
+from tests.test_plans import narrow_book
 from tests.things import flow_cases, odd_things
 
 RANGES = [(-3, 3), (0, 3), (-3, 0), (-1, 1), (-50, 50), (1, 2), (-2, -1), (0, 0)]
@@ -165,6 +166,33 @@ class Sums(unittest.TestCase):
             found += p.is_endless() and None not in (least, greatest)
         self.assertGreater(lacking, 15)
         self.assertGreater(found, 3)
+
+    def test_purses_with_loops_in_narrow_books(self):
+        """Of flows in which something has to be paid ahead of loops and behind them."""
+        chance = chances(276)
+        seen = set()
+        for _ in range(100):
+            tests, names = chance.choice([(("x",), ("d", "e")), (("x", "y"), ("d", "e")), (("x", "y"), ("d",))])
+            plain = narrow_book(chance, tests, names)
+
+            def some():
+                return ("check", tuple(truths for truths in all_truths(tests) if chance.random() < 0.6))
+
+            def step():
+                return ("deed", chance.choice(names))
+            loop = ("often", (">>", some(), ("|", step(), (">>", step(), step()))))
+            p = flow_of((">>", step(), (">>", loop, (">>", some(), (">>", step(), step())))), plain, book_of(plain))
+            costs = {deed: [(Say.yes(), chance.randint(0, 2))] + [(say_of(tests, some()[1]), chance.randint(-2, 3))
+                                                                  for _ in range(2)] for deed in names}
+            prices = Prices(p.book, costs)
+            ways = Ways(plain, p)
+            least = prices.some_purse(p)
+            if least is not None and least <= 12 and len(ways.steps) < 80:
+                self.assertEqual(least, ways.some_purse(costs, least))
+                # What is paid from a purse that holds at most 12 may be less, but never more.
+                self.assertTrue(least == 0 or not prices.paid(p, least - 1, 12))
+                seen.add(least)
+        self.assertGreater(len(seen), 8)
 
     def test_purses_with_loops(self):
         seen = set()
