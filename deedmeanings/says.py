@@ -45,7 +45,7 @@ class Say:
         say = Say.no()
         for yes, no in terms:
             names = merged(yes, no)
-            say = say | Say(names, term_table(names, yes, no))
+            say = say | Say(names, term_table(names, lacking_tables(len(names)), yes, no))
         return say
 
     def tests(self):
@@ -83,8 +83,9 @@ class Say:
     def terms(self):
         """The list of all prime terms of the say, in their order."""
         names = self._names
+        lacking = lacking_tables(len(names))
         found = [(yes, no) for yes in subsets(names) for no in subsets(rest_of(names, yes))
-                 if is_prime(names, self._table, yes, no)]
+                 if is_prime(names, lacking, self._table, yes, no)]
         return [(yes, no) for size in range(len(names) + 1) for yes, no in found if len(yes) + len(no) == size]
 
     def over(self, names):
@@ -175,21 +176,25 @@ def rest_of(names, some):
     return tuple([name for name in names if name not in some])
 
 
-def term_table(names, yes, no):
+def lacking_tables(count):
+    """The tables, over so many tests, of where each of them does not hold."""
+    return [without(count, place) for place in range(count)]
+
+
+def term_table(names, lacking, yes, no):
     """The table, over names, of where all of yes hold and none of no."""
-    count = len(names)
-    table = everywhere(count)
-    for place, name in enumerate(names):
+    table = everywhere(len(names))
+    for name, absent in zip(names, lacking):
         if name in yes:
-            table = table & ~without(count, place)
+            table = table & ~absent
         if name in no:
-            table = table & without(count, place)
+            table = table & absent
     return table
 
 
-def is_prime(names, table, yes, no):
+def is_prime(names, lacking, table, yes, no):
     """Whether a table is true wherever a term is, and no longer if a name of the term is left out."""
-    if term_table(names, yes, no) & ~table:
+    if term_table(names, lacking, yes, no) & ~table:
         return False
     shorter = [(rest_of(yes, (name,)), no) for name in yes] + [(yes, rest_of(no, (name,))) for name in no]
-    return all([term_table(names, some, others) & ~table for some, others in shorter])
+    return all([term_table(names, lacking, some, others) & ~table for some, others in shorter])

@@ -58,9 +58,30 @@ def shorter_plan(one, other):
 
 def parts_of(book, machine):
     """The dict from pairs of places between which a machine goes on to parts."""
+    ways = ways_of(book, machine)
+    # The text of a say takes time, and the same masks come again and again.
+    texts = {}
+    for _, _, come, mask in ways:
+        for some in gates_of(book, come, mask):
+            if some not in texts:
+                texts[some] = say_text(book.where(some))
+    parts = {(START, 0): SKIP}
+    for key, part, come, mask in ways:
+        gates = [texts[some] for some in gates_of(book, come, mask)]
+        told = gated_part(gates, part) if come & ~mask else part
+        parts[key] = either_part(parts.get(key), told)
+    return parts
+
+
+def ways_of(book, machine):
+    """The list of all ways by which a machine goes on or ends.
+
+    A way is told by the pair of its places, the part for its deed, the mask of the truths that may come to
+    where it begins, and the mask of the truths with which it is gone.
+    """
     edges = edges_of(machine, book.steps())
     come = come_masks(every_truths(machine), edges)
-    parts = {(START, 0): SKIP}
+    ways = []
     for place, mask in enumerate(machine.finals):
         masks = {}
         for symbol, bit, _, targets in edges[place]:
@@ -68,19 +89,23 @@ def parts_of(book, machine):
                 key = (target, symbol % machine.width)
                 masks[key] = masks.get(key, 0) | bit
         for target, deed in masks:
-            told = gated_part(book, come[place], masks[(target, deed)], (ALONE, book.deeds()[deed]))
-            parts[(place, target)] = either_part(parts.get((place, target)), told)
+            ways.append(((place, target), (ALONE, book.deeds()[deed]), come[place], masks[(target, deed)]))
         if mask:
-            parts[(place, END)] = gated_part(book, come[place], mask, SKIP)
-    return parts
+            ways.append(((place, END), SKIP, come[place], mask))
+    return ways
 
 
-def gated_part(book, come, mask, part):
-    """A part ahead of which is asked for truths of a mask, where only truths that come need be told apart."""
-    if not come & ~mask:
-        return part
+def gates_of(book, come, mask):
+    """The masks of which one has to be asked for; none has, if all truths that come are in the mask.
+
+    Only truths that come need be told apart.
+    """
     everything = (1 << len(book.truths())) - 1
-    texts = [say_text(book.where(some)) for some in (mask, mask | everything & ~come)]
+    return [mask, mask | everything & ~come] if come & ~mask else []
+
+
+def gated_part(texts, part):
+    """A part ahead of which the shorter one of two says, told by their texts, is asked for."""
     text = texts[0] if len(texts[0]) <= len(texts[1]) else texts[1]
     return joined_part((ALONE, "[" + text + "]"), part)
 
