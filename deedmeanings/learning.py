@@ -89,14 +89,20 @@ class Learner:
         return last >= 0 and self._keys[last][0] >> row[-1] & 1 == 1
 
     def learn(self, row):
-        """Tells two words apart that were thought to be of one class, by a row of which the guess was wrong."""
+        """Tells words apart by a row of which the guess is wrong, again and again until it is right."""
         row = self.without_rings(row)
+        wrong = self.is_guessed(row)
+        self.learn_once(row, wrong)
+        while self.is_guessed(row) == wrong and len(row) // 2 <= self.most_deeds():
+            self.learn_once(row, wrong)
+
+    def learn_once(self, row, wrong):
+        """Tells two words apart that were thought to be of one class, by a row and a wrong guess of it."""
         path = self.path(row)
-        before = self.is_guessed(row)
         for at in reversed(range(len(path) - 1)):
             # With the first truths alone ahead of it the whole row is told otherwise than was guessed.
-            now = not self.is_guessed(row) if at == 0 else self.is_row_behind(path[at], row[2 * at:])
-            if now != before:
+            now = not wrong if at == 0 else self.is_row_behind(path[at], row[2 * at:])
+            if now != wrong:
                 symbol = row[2 * at] * self._width + row[2 * at + 1]
                 self.tell_apart(path[at + 1], self._firsts[path[at]] + (symbol,), row[2 * at + 2:])
                 return
@@ -118,11 +124,14 @@ class Learner:
             self._leads[pair] = self.class_of(self._firsts[pair[0]] + (pair[1],))
         self.look_up(start)
 
+    def most_deeds(self):
+        """The number of deeds up to which each ending of a row may be asked for behind each first word."""
+        return LONGEST - max([len(first) for first in self._firsts])
+
     def without_rings(self, row):
         """A row of which the guess is wrong, too, that has so few deeds that all may be asked, if there is one."""
-        most = LONGEST - max([len(first) for first in self._firsts])
         shorter = row
-        while shorter is not None and len(shorter) // 2 > most:
+        while shorter is not None and len(shorter) // 2 > self.most_deeds():
             row = shorter
             shorter = self.without_ring(row)
         return row if shorter is None else shorter

@@ -304,8 +304,8 @@ class Statements(unittest.TestCase):
 
     def test_what_changes_an_object_is_called_by_its_own_methods_alone(self):
         changing = {"undo", "redo", "trial", "assume", "drop", "propose", "withdraw", "take", "turn"}
-        learning = {"is_told", "class_of", "look_up", "learn", "is_row_behind", "tell_apart", "without_rings",
-                    "without_ring"}
+        learning = {"is_told", "class_of", "look_up", "learn", "learn_once", "is_row_behind", "tell_apart",
+                    "without_rings", "without_ring"}
         for name, tree in trees():
             for function in functions_of(tree):
                 for node in ast.walk(function):
